@@ -1,0 +1,1 @@
+"""Cluemaker: puzzles on a floor of cells, thought out and made."""
