@@ -123,6 +123,36 @@ class Code(unittest.TestCase):
             top = defined_at_top(tree) + imported
             self.assertEqual(len(top), len(set(top)), name)
 
+    def test_parameters_and_locals_are_called_like_nothing_else(self):
+        for name, tree in trees():
+            taken = [alias.name for module, alias in drawn_from(tree)] + dir(builtins)
+            taken += [node.name for node in tree.body if isinstance(node, ast.ClassDef)]
+            for node in ast.walk(tree):
+                if isinstance(node, (ast.FunctionDef, ast.Lambda)):
+                    inner = [one.arg for one in ast.walk(node) if isinstance(one, ast.arg)]
+                    inner += [one.id for one in ast.walk(node)
+                              if isinstance(one, ast.Name) and isinstance(one.ctx, ast.Store)]
+                    self.assertEqual([word for word in inner if word in taken], [], name)
+
+    def test_no_name_is_a_method_here_and_a_value_there(self):
+        methods = []
+        values = []
+        for where, node in nodes():
+            if isinstance(node, ast.ClassDef):
+                methods += [inner.name for inner in node.body if isinstance(inner, ast.FunctionDef)]
+            if isinstance(node, ast.Attribute) and isinstance(node.ctx, ast.Store):
+                values.append(node.attr)
+        self.assertEqual([name for name in values if name in methods], [])
+
+    def test_power_and_written_sets(self):
+        for where, node in nodes():
+            if isinstance(node, ast.BinOp) and isinstance(node.op, ast.Pow):
+                self.assertIsInstance(node.right, ast.Constant, where)
+            if isinstance(node, ast.Compare) and any(isinstance(op, (ast.Is, ast.IsNot)) for op in node.ops):
+                self.assertIsInstance(node.comparators[0], ast.Constant, where)
+            if isinstance(node, ast.Set):
+                self.assertLess(len(node.elts), 3, where)
+
     def test_methods_of_pythons_own(self):
         for where, node in nodes():
             if isinstance(node, ast.Attribute) and node.attr not in UNDERSCORED:
