@@ -144,7 +144,13 @@ class Code(unittest.TestCase):
                 values.append(node.attr)
         self.assertEqual([name for name in values if name in methods], [])
 
-    def test_power_and_written_sets(self):
+    def test_a_class_lends_its_first_method_alone(self):
+        classes = [node.name for where, node in nodes() if isinstance(node, ast.ClassDef)]
+        for where, node in nodes():
+            if isinstance(node, ast.Attribute) and isinstance(node.value, ast.Name) and node.value.id in classes:
+                self.assertEqual(node.attr, "__init__", where)
+
+    def test_power_is_and_written_sets(self):
         for where, node in nodes():
             if isinstance(node, ast.BinOp) and isinstance(node.op, ast.Pow):
                 self.assertIsInstance(node.right, ast.Constant, where)

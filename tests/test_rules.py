@@ -49,6 +49,10 @@ class Read(unittest.TestCase):
             self.assertIs(rule.reckons(), reckons)
             self.assertEqual(rule.line(), line)
 
+    def test_the_rules_have_their_names_from_rule(self):
+        for name in ("name", "spots", "holds", "number", "sign", "reckons", "line"):
+            self.assertTrue(callable(getattr(Rule, name)), name)
+
     def test_every_number_in_its_bounds(self):
         for number in range(100):
             self.assertEqual(read_rule(ROW, f"sum {number} 0 1").number(), number)
@@ -151,6 +155,7 @@ class Refused(unittest.TestCase):
         self.refuse(ROW, "unlike" + " " * 3900)
         self.refuse(ROW, "unlike " + "0" * 3900)
         self.refuse(ROW, "u" * 4000)
+        self.refuse(ROW, "sum " + "9" * 5000 + " 0")
 
 
 def all_fillings(many, signs):
