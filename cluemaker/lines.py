@@ -65,10 +65,8 @@ def pair_strikes(rule, masks, cell, sign, more):
     return len([other for other in together if other != sign]) <= 1
 
 
-# whether it is a thought of a kind of this file that is let by from the masks
-def allowed_by_line(puzzle, masks, thought):
-    if not is_formed(puzzle, thought) or thought[0] not in LINE_KINDS:
-        return False
+# whether a thought of a kind of this file is let by from the masks, its form being as told (is_formed)
+def strikes_by_line(puzzle, masks, thought):
     kind = thought[0]
     cell = thought[2]
     sign = thought[3]
@@ -83,6 +81,11 @@ def allowed_by_line(puzzle, masks, thought):
     if kind == "step":
         return step_strikes(rule, masks, cell, sign, more)
     return pair_strikes(rule, masks, cell, sign, more)
+
+
+# as above, of any thought: False of one that has another form or kind
+def allowed_by_line(puzzle, masks, thought):
+    return is_formed(puzzle, thought) and thought[0] in LINE_KINDS and strikes_by_line(puzzle, masks, thought)
 
 
 # the cells on which a thought of a kind of this file rests, its parts being as told of its kind

@@ -55,16 +55,19 @@ def ways_strikes(rule, masks, cell, sign, more):
     return True
 
 
-# whether it is a thought of a kind of this file that is let by from the masks
-def allowed_by_number(puzzle, masks, thought):
-    if not is_formed(puzzle, thought) or thought[0] not in NUMBER_KINDS:
-        return False
+# whether a thought of a kind of this file is let by from the masks, its form being as told (is_formed)
+def strikes_by_number(puzzle, masks, thought):
     rule = puzzle.rules()[thought[1]]
     if thought[0] == "count":
         return count_strikes(rule, masks, thought[2], thought[3], thought[4])
     if thought[0] == "sum":
         return sum_strikes(rule, masks, thought[2], thought[3], thought[4])
     return ways_strikes(rule, masks, thought[2], thought[3], thought[4])
+
+
+# as above, of any thought: False of one that has another form or kind
+def allowed_by_number(puzzle, masks, thought):
+    return is_formed(puzzle, thought) and thought[0] in NUMBER_KINDS and strikes_by_number(puzzle, masks, thought)
 
 
 # the cells on which a thought of a kind of this file rests, its parts being as told of its kind

@@ -55,10 +55,8 @@ def turn_strikes(floor, rule, masks, cell, sign, more):
     return many_may(some, mark) < 2
 
 
-# whether it is a thought of a kind of this file that is let by from the masks
-def allowed_by_region(puzzle, masks, thought):
-    if not is_formed(puzzle, thought) or thought[0] not in REGION_KINDS:
-        return False
+# whether a thought of a kind of this file is let by from the masks, its form being as told (is_formed)
+def strikes_by_region(puzzle, masks, thought):
     floor = puzzle.place()
     rule = puzzle.rules()[thought[1]]
     if thought[0] == "square":
@@ -66,6 +64,11 @@ def allowed_by_region(puzzle, masks, thought):
     if thought[0] == "reach":
         return reach_strikes(floor, rule, masks, thought[2], thought[3], thought[4])
     return turn_strikes(floor, rule, masks, thought[2], thought[3], thought[4])
+
+
+# as above, of any thought: False of one that has another form or kind
+def allowed_by_region(puzzle, masks, thought):
+    return is_formed(puzzle, thought) and thought[0] in REGION_KINDS and strikes_by_region(puzzle, masks, thought)
 
 
 # the cells on which a thought of a kind of this file rests, its parts being as told of its kind

@@ -7,10 +7,8 @@ import random
 import unittest
 
 from cluemaker.kinds import KINDS
-from cluemaker.lines import LINE_KINDS, allowed_by_line, rests_by_line
-from cluemaker.numbers import NUMBER_KINDS, allowed_by_number, rests_by_number
 from cluemaker.puzzles import Puzzle
-from cluemaker.regions import REGION_KINDS, allowed_by_region, rests_by_region
+from cluemaker.thoughts import allowed, rests_on
 
 # the random source has a fixed seed, so that every run asks the same
 ROUNDS = 30
@@ -40,22 +38,6 @@ NAMES = {
     "square": ["nosquare"], "reach": ["joined", "ring"], "turn": ["ring"], "pair": ["unlike"],
     "ways": ["unlike", "sum", "rising", "seen", "count", "joined", "nosquare", "ring"],
 }
-
-
-def allowed(puzzle, masks, thought):
-    if thought[0] in LINE_KINDS:
-        return allowed_by_line(puzzle, masks, thought)
-    if thought[0] in NUMBER_KINDS:
-        return allowed_by_number(puzzle, masks, thought)
-    return allowed_by_region(puzzle, masks, thought)
-
-
-def rests_on(puzzle, thought):
-    if thought[0] in LINE_KINDS:
-        return rests_by_line(puzzle, thought)
-    if thought[0] in NUMBER_KINDS:
-        return rests_by_number(puzzle, thought)
-    return rests_by_region(puzzle, thought)
 
 
 def answers_of(floor, lines, clues):
