@@ -10,6 +10,7 @@ from cluemaker.books import follow, follow_from
 from cluemaker.puzzles import Puzzle
 from cluemaker.thinking import KINDS, next_thought, think
 from cluemaker.thoughts import allowed
+from tests.making import all_answers, full_of
 
 WORDS = ["clue", "only", "place", "count", "step", "sum", "square", "reach", "turn", "pair", "ways"]
 
@@ -79,12 +80,6 @@ def standstill_in_any_order(chance, puzzle, masks, kinds, thoughts):
                 struck = True
         chance.shuffle(left)
     return now
-
-
-def answers_of(puzzle):
-    signs = range(1, puzzle.place()[2] + 1)
-    fillings = itertools.product(signs, repeat=len(puzzle.clues()))
-    return [list(filling) for filling in fillings if puzzle.meets(list(filling))]
 
 
 def masks_by(chance, puzzle):
@@ -183,9 +178,8 @@ class Next(unittest.TestCase):
     def test_none_where_the_masks_clash(self):
         for floor, lines, clues in PUZZLES:
             puzzle = Puzzle(floor, lines, [1] * len(clues))
-            full = 2 ** floor[2] - 1
             for cell in range(len(clues)):
-                masks = [full] * len(clues)
+                masks = full_of(puzzle)
                 masks[cell] = 0
                 self.assertIsNone(next_thought(puzzle, masks, WORDS))
                 self.assertIsNone(next_thought(puzzle, [0] * len(clues), WORDS))
@@ -193,9 +187,8 @@ class Next(unittest.TestCase):
     def test_without_kinds(self):
         for floor, lines, clues in PUZZLES:
             puzzle = Puzzle(floor, lines, clues)
-            masks = [2 ** floor[2] - 1] * len(clues)
-            self.assertIsNone(next_thought(puzzle, masks, []))
-            self.assertEqual(think(puzzle, masks, []), (masks, []))
+            self.assertIsNone(next_thought(puzzle, full_of(puzzle), []))
+            self.assertEqual(think(puzzle, full_of(puzzle), []), (full_of(puzzle), []))
 
 
 class Think(unittest.TestCase):
@@ -204,7 +197,7 @@ class Think(unittest.TestCase):
         for floor, lines, clues in PUZZLES:
             puzzle = Puzzle(floor, lines, clues)
             thoughts = thoughts_in_order(puzzle)
-            full = [2 ** floor[2] - 1] * len(clues)
+            full = full_of(puzzle)
             yield chance, puzzle, full, list(WORDS), thoughts
             for turn in range(many):
                 masks = full if chance.random() < 0.3 else masks_by(chance, puzzle)
@@ -229,7 +222,7 @@ class Think(unittest.TestCase):
     def test_from_the_start_the_book_is_followed_from_there(self):
         for floor, lines, clues in PUZZLES:
             puzzle = Puzzle(floor, lines, clues)
-            end, book = think(puzzle, [2 ** floor[2] - 1] * len(clues), WORDS)
+            end, book = think(puzzle, full_of(puzzle), WORDS)
             self.assertEqual(follow(puzzle, book), end)
 
     def test_the_same_standstill_in_whatever_order(self):
@@ -255,7 +248,7 @@ class Think(unittest.TestCase):
     def test_no_answer_is_struck_out(self):
         for chance, puzzle, masks, kinds, thoughts in self.rounds(20):
             end = think(puzzle, masks, kinds)[0]
-            for answer in answers_of(puzzle):
+            for answer in all_answers(puzzle):
                 if all(mask & 2 ** (sign - 1) for mask, sign in zip(masks, answer)):
                     self.assertTrue(all(mask & 2 ** (sign - 1) for mask, sign in zip(end, answer)), (masks, end, answer))
 
@@ -272,7 +265,7 @@ class Think(unittest.TestCase):
         for floor, lines, clues in PUZZLES:
             puzzle = Puzzle(floor, lines, [1] * len(clues))
             for cell in range(len(clues)):
-                masks = [2 ** floor[2] - 1] * len(clues)
+                masks = full_of(puzzle)
                 masks[cell] = 0
                 self.assertEqual(think(puzzle, masks, WORDS), (masks, []))
 

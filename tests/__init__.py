@@ -1,0 +1,1 @@
+"""The tests; what several of them need lies in making.py."""
