@@ -1,4 +1,4 @@
-"""Rows of words, read as rules."""
+"""Rows of words, read as rules, and written."""
 
 from cluemaker.errors import NoRule
 from cluemaker.floors import many_cells
@@ -12,6 +12,18 @@ MOST_NUMBER = 99
 WITH_NUMBER = ("sum", "seen", "count")
 WITH_SIGN = ("count", "joined", "nosquare", "ring")
 OF_ALL_CELLS = ("joined", "nosquare", "ring")
+
+
+# the row of words of the rule with these parts; what a rule of this name does not tell is left out
+def line_by(name, amount, mark, cells):
+    words = [name]
+    if name in WITH_NUMBER:
+        words.append(str(amount))
+    if name in WITH_SIGN:
+        words.append(str(mark))
+    if name not in OF_ALL_CELLS:
+        words.extend([str(cell) for cell in cells])
+    return " ".join(words)
 
 
 # None where the word tells no number

@@ -4,7 +4,7 @@ import unittest
 from cluemaker.errors import (
     BadThought, ClueError, NoFilling, NoFloor, NoMove, NoName, NoPuzzle, NoRow, NoRule, NoText, NotOne, TooMany,
 )
-from cluemaker.rows import read_rule
+from cluemaker.rows import line_by, read_rule
 from cluemaker.rules import Rule
 
 OTHER_REFUSALS = (NoFilling, NoFloor, NoMove, NoName, NoPuzzle, NoRow, NoText, NotOne, TooMany, BadThought)
@@ -48,6 +48,10 @@ class Read(unittest.TestCase):
             self.assertEqual(rule.sign(), sign)
             self.assertIs(rule.reckons(), reckons)
             self.assertEqual(rule.line(), line)
+
+    def test_a_row_is_written_from_the_parts_of_its_rule(self):
+        for floor, line, name, cells, number, sign, reckons in TOLD:
+            self.assertEqual(line_by(name, number, sign, cells), line)
 
     def test_the_rules_have_their_names_from_rule(self):
         for name in ("name", "spots", "holds", "number", "sign", "reckons", "line"):
